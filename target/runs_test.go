@@ -125,7 +125,7 @@ func edges() []uint64 {
 	return []uint64{0, 1, 2, 3, 4, 100, 255, 256, 257, 512, 739, 9000, 65_536, api.Second - 1, api.Second, api.Second + 1, 1 << 32, most / 1_000_000, 1<<56 - 1, 1 << 56, most / 10, most/10 + 1, most / 4, most/4 + 1, most / 3, most/3 + 1, half - 1, half, half + 1, most - 1, most}
 }
 
-// TestEdges: all of the edges with each other.
+// TestEdges: all of the edges with each other for Bdp and Rate; for Window those of tso and mss, with the ends of the rest.
 func TestEdges(t *testing.T) {
 	ends := []uint64{0, 1, 100, most / 4, most/3 + 1, most}
 	for _, bw := range edges() {
