@@ -150,10 +150,17 @@ func together(a, b uint64) uint64 {
 // tail: so many rounds, and then steps by each of which a sample may end: behind the last one so much later, with so much more delivered.
 func (o told) tail(n, delivered, time, lost uint64) path {
 	now, got := o.now, o.delivered
-	h := path(nil).rounds(n, now, got)
+	h := make(path, 0, n+3*(few+1))
+	rounds := func(n uint64) {
+		for range n {
+			h = append(h, step{true, api.Sample{Now: now, Delivered: got}})
+		}
+	}
+	rounds(n)
 	for range 3 {
 		now, got = now+time, got+delivered // they may go round: then the step is one that falls
-		h = h.and(step{false, api.Sample{Now: now, Delivered: got, Lost: lost}}).rounds(few, now, got)
+		h = append(h, step{false, api.Sample{Now: now, Delivered: got, Lost: lost}})
+		rounds(few)
 		lost = max(1, delivered)
 	}
 	return h
